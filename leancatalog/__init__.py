@@ -1,0 +1,1 @@
+"""A catalog of database objects that lean on one another."""
