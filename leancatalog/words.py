@@ -67,10 +67,7 @@ def is_address(thing):
 
 def space_of(address):
     """The space in which the name of the item stands only once."""
-    kind = address[0]
-    if kind == "schema":
-        return ("schema",)
-    if kind in RELATIONS:
+    if address[0] in RELATIONS:
         return ("relation", address[1])
     return address[:-1]
 

@@ -181,6 +181,13 @@ class Rings(unittest.TestCase):
             least = min(all_rings(calls), key=lambda names: (len(names), names), default=None)
             self.assertEqual(ring(calling(calls)), least if least is None else functions(least))
 
+    def test_items_that_are_no_functions(self):
+        one, other = ("table", "app", "f"), ("table", "app", "g")
+        items = {one: [need(other)], other: [need(one)]}
+        self.assertIsNone(ring(Stub(items)))
+        items.update({function(name): [need(function(after)), need(one)] for name, after in zip("abc", "bca")})
+        self.assertEqual(ring(Stub(items)), functions("abc"))
+
     def test_functions_of_several_schemas(self):
         one, other = ("function", "app", "f"), ("function", "old", "f")
         self.assertEqual(ring(Stub({other: [need(one)], one: [need(other)]})), [one, other])
