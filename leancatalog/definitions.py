@@ -117,6 +117,11 @@ def expressions_of(kind, definition):
     return [definition[-1]]
 
 
+def table_around(address, definition):
+    """The names of the schema and the table whose columns the expressions of the item at an address name."""
+    return (address[1], definition[0]) if address[0] == "index" else address[1:3]
+
+
 def has_domain(kind, definition):
     """Whether the definition is that of a column with a domain."""
     return kind == "column" and definition[0] not in BASES

@@ -158,3 +158,14 @@ def with_refs_in(expression, found):
     if word in OPERATORS:
         return (word,) + parts
     return expression
+
+
+def with_columns_in(expression, found):
+    """The expression with the names that found, a dict, has for its columns; the others stay."""
+    word = expression[0]
+    if word == "column":
+        return (word, found.get(expression[1], expression[1]))
+    parts = tuple([with_columns_in(part, found) for part in parts_of(expression)])
+    if word == "call":
+        return expression[:2] + (parts,)
+    return (word,) + parts if word in OPERATORS else expression

@@ -1,4 +1,4 @@
-"""Integers, names, refs and addresses, and where an item lies."""
+"""Integers, names, refs and addresses, where an item lies, and the order of what items need and offer."""
 
 KINDS = (
     "schema",
@@ -82,3 +82,19 @@ def parent_of(address):
     if NAMES[kind] == 3:
         return ("table",) + address[1:3]
     return ("schema", address[1])
+
+
+def namesakes(address):
+    """The addresses that have the own name of this one in its space, itself among them, in ascending order."""
+    if address[0] in RELATIONS:
+        return [(kind,) + address[1:] for kind in sorted(list(RELATIONS))]
+    return [address]
+
+
+def rank(thing):
+    """The key by which None comes ahead of all, integers ahead of strings, strings ahead of tuples."""
+    if thing is None:
+        return (0,)
+    if isinstance(thing, tuple):
+        return (3, tuple([rank(part) for part in thing]))
+    return (1 if is_integer(thing) else 2, thing)
