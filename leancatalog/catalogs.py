@@ -21,19 +21,19 @@ class Catalog:
         """The tuple of the names of the search path."""
         return self._path
 
-    def __getitem__(self, address):
+    def __getitem__(self, at):
         """The definition of the item at an address, with full refs."""
-        if address not in self._states:
-            raise NoItem(address)
-        return self._states[address][0]
+        if at not in self._states:
+            raise NoItem(at)
+        return self._states[at][0]
 
     # Without this, Python would iterate over a catalog by the integers from 0 on.
     def __iter__(self):
         raise TypeError("a catalog is not iterated over: ask for its addresses")
 
-    def __contains__(self, address):
+    def __contains__(self, x):
         """Whether there is an item at an address."""
-        return address in self._states
+        return x in self._states
 
     def __len__(self):
         """The number of the items."""

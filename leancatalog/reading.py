@@ -33,10 +33,7 @@ def asked_of_table(address, definition):
 def asked_by_expressions(address, definition):
     """What an item asks by its domain, and by the calls, nexts and columns in its expressions."""
     kind = address[0]
-    asked = [
-        ((space,) + ref, None, "hard", space != "sequence")
-        for space, ref in refs_of(kind, definition) if space != "relation"
-    ]
+    asked = [((space,) + ref, None, "hard", space != "sequence") for space, ref in refs_of(kind, definition)]
     part, how = ("plain", "hard") if kind == "column" else (None, "soft")
     table = table_around(address, definition)
     for expression in expressions_of(kind, definition):
@@ -125,7 +122,7 @@ def expressions_fit(address, definition, wanted):
         type_of(expression, columns=columns, value=value, params=params, functions=functions)
         for expression in expressions_of(kind, definition)
     ]
-    return all([found_type in types for found_type in found])
+    return all([one in types for one in found])
 
 
 def query_fits(query, wanted):

@@ -1,36 +1,14 @@
 """Catalogs for the tests, each made by a script."""
 
-from leancatalog.catalogs import Catalog, Identity, catalog_of, identities_of, states_of
-from leancatalog.reading import state_in
-from leancatalog.statements import written_out
+from leancatalog.catalogs import Catalog
+from leancatalog.changes import run
 
 CREATE = "create"
 
 
 def made(script, catalog=None):
-    """The Catalog after a list of statements that set the path or create items."""
-    catalog = Catalog() if catalog is None else catalog
-    for statement in script:
-        full = written_out(catalog, statement)
-        states, identities, path = states_of(catalog), identities_of(catalog), catalog.path
-        if full[0] == "path":
-            path = full[1]
-        else:
-            address = item_of(full)
-            states[address] = state_in(states, address, full[3])
-            identities[address] = Identity()
-        catalog = catalog_of(states, identities, path)
-    return catalog
-
-
-def item_of(statement):
-    """The address of the item of a statement with full refs."""
-    _, kind, where = statement[:3]
-    if kind == "schema":
-        return (kind, where)
-    if kind in ("column", "default", "check", "trigger"):
-        return (kind,) + where[0] + (where[1],)
-    return (kind,) + where
+    """The Catalog after a list of statements."""
+    return run(Catalog() if catalog is None else catalog, script)
 
 
 # One item of each kind at least, and needs of each sort.

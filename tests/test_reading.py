@@ -151,6 +151,21 @@ class NeedsOfItems(Reading):
         self.needs(NETS, simple(ORDERS_REF, ONE), [(APP, None, None, "hard"), (ORDERS, None, None, "hard")])
         self.needs(("domain", "app", "money"), ("text", None), [(APP, None, None, "hard")])
 
+    def test_equal_names_of_items_that_are_needed_together(self):
+        catalog = made([
+            (CREATE, "domain", "same", ("text", None)), (CREATE, "function", "same", (("text",), "text", ("param", 0))),
+            (CREATE, "table", "same", ()), (CREATE, "column", ("same", "same"), ("same", None)),
+            (CREATE, "column", ("same", "app"), ("text", None)),
+        ], self.catalog)
+        both = ("join", ("call", ("app", "same"), (column("same"),)), column("app"))
+        self.assertEqual(read(catalog, ("column", "app", "same", "x"), (("app", "same"), both)), [
+            (("column", "app", "same", "app"), "plain", "text", "hard"),
+            (("column", "app", "same", "same"), "plain", "text", "hard"),
+            (("domain", "app", "same"), None, "text", "hard"), (("function", "app", "same"), None, (("text",), "text"), "hard"),
+            (("table", "app", "same"), None, None, "owned"),
+        ])
+        self.assertEqual(len(read(catalog, ("index", "app", "x"), ("same", (both, column("same"))))), 5)
+
     def test_a_returned_list_is_the_callers(self):
         before = shop()
         read(self.catalog, NET, self.catalog[NET]).clear()

@@ -2,7 +2,7 @@
 
 import unittest
 
-from leancatalog.words import KINDS, is_address, is_integer, is_name, is_ref, parent_of, space_of
+from leancatalog.words import KINDS, is_address, is_integer, is_name, is_ref, namesakes, parent_of, rank, space_of
 from tests.stub import Odd, all_sorts
 
 SCHEMA = ("schema", "app")
@@ -134,3 +134,20 @@ class Places(unittest.TestCase):
     def test_spaces_and_parents_of_names_that_are_kinds(self):
         self.assertEqual(space_of(("table", "schema", "view")), ("relation", "schema"))
         self.assertEqual(parent_of(("default", "default", "schema", "table")), ("column", "default", "schema", "table"))
+
+
+class Helpers(unittest.TestCase):
+    def test_addresses_of_one_name_in_one_space(self):
+        for kind in KINDS:
+            address = (kind,) + ("app", "bills", "net")[:1 if kind == "schema" else 2 if kind in IN_SCHEMA else 3]
+            kinds = ["index", "sequence", "table", "view"] if space_of(address)[0] == "relation" else [kind]
+            self.assertEqual(namesakes(address), [(one,) + address[1:] for one in kinds])
+            self.assertEqual({space_of(one) for one in namesakes(address)}, {space_of(address)})
+
+    def test_none_ahead_of_integers_ahead_of_strings_ahead_of_tuples(self):
+        ascending = [
+            None, -2, 0, 10, "", "a", "ab", "b", (), (None,), (None, None), (3,), ("a",), ("a", None), ("a", "b"),
+            ("a", ()), ("b", None), ((),), (("a",), None), (("a",), "a"), (("b",), None),
+        ]
+        self.assertEqual(sorted(ascending[::-1], key=rank), ascending)
+        self.assertEqual(sorted(ascending[1::2] + ascending[::2], key=rank), ascending)
