@@ -62,23 +62,32 @@ def values_named(catalog, atom, data):
     return list({tuple([row[place] for place in places]): True for row in data.get(table, [])})
 
 
-def choices_for(catalog, atoms, data):
-    """The choices of values for the variables of atoms by which each atom has a row."""
+def told_apart(choices, wanted):
+    """The choices for the wanted variables alone, each once."""
+    kept = [{term: choice[term] for term in choice if term in wanted} for choice in choices]
+    # All choices have the same variables, in the same order.
+    return list({tuple(list(choice.values())): choice for choice in kept}.values())
+
+
+def choices_for(catalog, join, data):
+    """The choices of values for the variables of a join's outputs by which each of its atoms has a row."""
+    atoms, outputs = join
     found = [{}]
-    for atom in atoms:
+    for at, atom in enumerate(atoms):
         terms = [term for _, term in atom[1]]
         rows = values_named(catalog, atom, data)
         made = [chosen_with(terms, values, chosen) for chosen in found for values in rows]
-        found = [chosen for chosen in made if chosen is not None]
+        later = [term for _, told in atoms[at + 1:] for _, term in told]
+        found = told_apart([chosen for chosen in made if chosen is not None], later + list(outputs))
     return found
 
 
 def rows_of_union(catalog, union, data):
     """The rows that a union selects from data, in ascending order."""
     rows = []
-    for atoms, outputs in union:
-        for chosen in choices_for(catalog, atoms, data):
-            rows.append(tuple([chosen[term] if term[0] == "var" else term[1] for term in outputs]))
+    for join in union:
+        for chosen in choices_for(catalog, join, data):
+            rows.append(tuple([chosen[term] if term[0] == "var" else term[1] for term in join[1]]))
     return sorted(set(rows))
 
 

@@ -49,22 +49,30 @@ def is_map(one, other, thing):
     return chosen is not None
 
 
-def least_rest(one, other, done, chosen):
-    """The least map that begins as the tuple done, by a choice that goes on from chosen, or None."""
-    if len(done) == len(one[0]):
+def least_rest(one, other, done, chosen, failed):
+    """The least map that begins as the tuple done, by a choice that goes on from chosen, or None.
+
+    failed gets what was tried in vain: how many atoms are done, and the terms chosen for variables of those left.
+    """
+    left = one[0][len(done):]
+    if not left:
         return done
+    tried = (len(done), tuple([chosen.get(term) for _, told in left for _, term in told]))
+    if tried in failed:
+        return None
     for at in range(len(other[0])):
-        further = agreed_atom(one[0][len(done)], other[0], at, chosen)
-        found = None if further is None else least_rest(one, other, done + (at,), further)
+        further = agreed_atom(left[0], other[0], at, chosen)
+        found = None if further is None else least_rest(one, other, done + (at,), further, failed)
         if found is not None:
             return found
+    failed[tried] = True
     return None
 
 
 def map_of(one, other):
     """The least map of one join to another one, or None."""
     chosen = agreed(one[1], other[1], {})
-    return None if chosen is None else least_rest(one, other, (), chosen)
+    return None if chosen is None else least_rest(one, other, (), chosen, {})
 
 
 def least_map(join, union):

@@ -103,6 +103,20 @@ class Items(unittest.TestCase):
                     ask(address)
                 self.assertEqual(caught.exception.address, address)
 
+    def test_no_item_where_one_is_gone_or_was_renamed(self):
+        for statement, gone in [
+            (("drop", "table", "orders", "cascade"), [ORDERS, ID, NET, WHO, GROSS, START, CHEAP, TOLD, BYNET, NETS, TOPS]),
+            (("rename", "table", "orders", "bills"), [ORDERS, ID, NET, WHO, GROSS, START, CHEAP, TOLD]),
+        ]:
+            after = made([statement], self.catalog)
+            for address in gone:
+                self.assertIs(address in after, False)
+                for ask in [after.needs, after.offers, after.leaners, lambda item: after[item]]:
+                    with self.assertRaises(NoItem) as caught:
+                        ask(address)
+                    self.assertEqual(caught.exception.address, address)
+                self.assertEqual(self.catalog.needs(address), NEEDS[address])
+
     def test_returned_lists_are_the_callers(self):
         before = shop()
         for ask in [self.catalog.needs, self.catalog.offers, self.catalog.leaners]:

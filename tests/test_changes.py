@@ -372,7 +372,9 @@ class Replacing(Changing):
 
     def test_errors_of_reading(self):
         self.needs(NET, ("domain", "app", "none"), replace(NET, (("app", "none"), None)))
-        self.misfit(NET, replace(NET, ("int", TEXT)))
+        for way in WAYS:
+            self.misfit(NET, replace(NET, ("int", TEXT), way))
+            self.misfit(TAX, replace(TAX, (("int",), "truth", ("and", call("small", ONE), TEXT)), way))
         self.misfit(NET, replace(NET, ("int", ("column", "net"))))
         self.misfit(NET, replace(NET, ("int", ("column", "gross"))))
         self.misfit(NETS, replace(NETS, (9, ("n",), (((("o", ("app", "nets")),), (), (ONE,)),))))

@@ -462,6 +462,18 @@ class Maps(unittest.TestCase):
         self.assertIsNone(map_of(ring, chain))
         self.assertEqual(map_of(ring, (((T, (("a", var(0)), ("b", var(0)))),), (var(0),))), (0,) * 6)
 
+    def test_atoms_that_are_tried_in_vain_behind_many_others(self):
+        free = tuple((T, (("a", var(k)),)) for k in range(4))
+        apart = (tuple((T, (("a", var(2 * k)), ("b", var(2 * k + 1)))) for k in range(6)), (ONE,))
+        last = ((T, (("a", var(4)), ("b", var(5)))), (T, (("a", var(5)), ("b", var(4)))))
+        self.assertIsNone(map_of((free + last, (ONE,)), apart))
+        self.assertIsNone(map_of((free + ((T, (("a", ONE),)),) * 2, (ONE,)), apart))
+        both = (apart[0][:5] + ((T, (("a", var(20)), ("b", var(20)))),), (ONE,))
+        self.assertEqual(map_of((free + last, (ONE,)), both), (0, 0, 0, 0, 5, 5))
+        follow = (free[:3] + ((T, (("a", var(0)), ("b", var(1)))),) + last[:1], (var(5),))
+        self.assertEqual(map_of(follow, (apart[0], (var(7),))), None)
+        self.assertEqual(map_of(follow, (both[0], (var(7),))), (5, 5, 0, 5, 3))
+
 
 class Within(unittest.TestCase):
     def test_unions_with_no_join(self):
