@@ -18,7 +18,7 @@ def distances(start, steps):
 
 def reached(start, steps):
     """The ascending list of the items that are reached from start, start included."""
-    return sorted(distances(start, steps))
+    return sorted(list(distances(start, steps)))
 
 
 def least_way(start, away, steps):
