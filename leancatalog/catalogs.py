@@ -93,3 +93,8 @@ def states_of(catalog):
 def identities_of(catalog):
     """A dict from the addresses of a catalog to the identities of its items."""
     return {address: catalog._identities[address] for address in catalog._identities}
+
+
+def addresses_by_identity(catalog):
+    """A dict from the identities of the items of a catalog to their addresses."""
+    return {catalog._identities[address]: address for address in catalog._identities}

@@ -1,6 +1,6 @@
 """What falls if an item is dropped, why, and in which order it can be dropped."""
 
-from leancatalog.graphs import distances, least_way, reached
+from leancatalog.graphs import distances, least_order, least_way, reached, stand_in_order
 from leancatalog.leans import leaned_on, leaners_by_any, must_stand, ring_among
 from leancatalog.words import is_address
 
@@ -52,14 +52,10 @@ def is_chain(catalog, address, other, thing):
 def order(catalog, address):
     """The least order in which all that falls can be dropped alone, or the ring of functions that stops it."""
     fallen = falls(catalog, address)
-    leaners = {item: catalog.leaners(item) for item in fallen}
-    dropped = {}
-    while len(dropped) < len(fallen):
-        free = [item for item in fallen if item not in dropped and all([other in dropped for other in leaners[item]])]
-        if not free:
-            return ("ring", ring_among(catalog, [item for item in fallen if item[0] == "function"]))
-        dropped[free[0]] = True
-    return ("order", list(dropped))
+    dropped = least_order({item: catalog.leaners(item) for item in fallen})
+    if len(dropped) < len(fallen):
+        return ("ring", ring_among(catalog, [item for item in fallen if item[0] == "function"]))
+    return ("order", dropped)
 
 
 def is_order(catalog, address, thing):
@@ -67,5 +63,4 @@ def is_order(catalog, address, thing):
     fallen = falls(catalog, address)
     if not isinstance(thing, list) or not all([is_address(item) for item in thing]) or sorted(thing) != fallen:
         return False
-    places = {item: at for at, item in enumerate(thing)}
-    return all([places[other] < places[item] for item in thing for other in catalog.leaners(item)])
+    return stand_in_order(thing, {item: catalog.leaners(item) for item in fallen})

@@ -1,5 +1,6 @@
 """Reading a query in a catalog, and writing it out to joins of tables alone."""
 
+from leancatalog.definitions import BASES
 from leancatalog.errors import Misfit, NoItem, NoName, TooMany
 from leancatalog.graphs import distances
 from leancatalog.paths import told
@@ -114,11 +115,22 @@ def terms_joined(links):
     same = {}
     for term in steps:
         group = sorted(list(distances(term, lambda item: steps[item])))
-        constants = [one for one in group if one[0] != "at"]
+        constants = [one for one in group if one[0] in BASES]
         if len(constants) > 1:
             return None
         same[term] = constants[0] if constants else group[0]
     return same
+
+
+def numbered(atoms, outputs):
+    """The join of atoms and outputs, with a variable for each term that is no constant, in the order of the atoms."""
+    numbers = {}
+    for _, terms in atoms:
+        for _, term in terms:
+            if term[0] not in BASES:
+                numbers.setdefault(term, ("var", len(numbers)))
+    joined = [(table, tuple([(name, numbers.get(term, term)) for name, term in named])) for table, named in atoms]
+    return (tuple(joined), tuple([numbers.get(term, term) for term in outputs]))
 
 
 def join_of(choice):
@@ -127,18 +139,11 @@ def join_of(choice):
     same = terms_joined(links)
     if same is None:
         return None
-    numbers = {}
-    told_atoms = []
-    for at, (table, names) in enumerate(atoms):
-        terms = []
-        for name in names:
-            term = same.get(("at", at, name), ("at", at, name))
-            if term[0] == "at":
-                term = numbers.setdefault(term, ("var", len(numbers)))
-            terms.append((name, term))
-        told_atoms.append((table, tuple(terms)))
-    ends = [same.get(output, output) for output in outputs]
-    return (tuple(told_atoms), tuple([numbers.get(end, end) for end in ends]))
+    joined = [
+        (table, [(name, same.get(("at", at, name), ("at", at, name))) for name in names])
+        for at, (table, names) in enumerate(atoms)
+    ]
+    return numbered(joined, [same.get(output, output) for output in outputs])
 
 
 def written_query(catalog, query):

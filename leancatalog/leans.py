@@ -1,7 +1,7 @@
 """Which items of a catalog lean on which."""
 
 from leancatalog.errors import NoItem
-from leancatalog.graphs import distances, least_way, reached
+from leancatalog.graphs import least_ring, reached
 from leancatalog.words import is_address
 
 
@@ -50,37 +50,12 @@ def ring(catalog):
 
 def ring_among(catalog, functions):
     """The ring as above of these functions alone."""
-    calls = {function: called_of(catalog, function, functions) for function in functions}
-    callers = turned(calls)
-    rings = [ring_through(function, calls, callers) for function in functions]
-    return min(
-        [found for found in rings if found is not None], key=lambda found: (len(found), found), default=None
-    )
+    return least_ring({function: called_of(catalog, function, functions) for function in functions})
 
 
 def called_of(catalog, function, functions):
     """Which of these functions, other than itself, a function calls."""
     return [other for other in leaned_on(catalog, function) if other in functions]
-
-
-def turned(steps):
-    """A dict from items to lists of items, the other way about."""
-    back = {item: [] for item in steps}
-    for item in steps:
-        for other in steps[item]:
-            back[other].append(item)
-    return back
-
-
-def ring_through(function, calls, callers):
-    """The shortest ring that begins with a function, the least of several, or None."""
-    away = distances(function, lambda item: callers[item])
-    nearest = min(
-        [other for other in calls[function] if other in away], key=lambda item: (away[item], item), default=None
-    )
-    if nearest is None:
-        return None
-    return [function] + least_way(nearest, away, lambda item: calls[item])[:-1]
 
 
 def is_ring(catalog, thing):

@@ -112,3 +112,15 @@ def written_out(catalog, statement):
     if word in ("create", "replace"):
         return full + (full_definition(catalog, kind, statement[3]),) + statement[4:]
     return full + statement[3:]
+
+
+def where_of(address):
+    """The where, with a full ref, of a statement about the item at an address."""
+    if address[0] == "schema":
+        return address[1]
+    return address[1:] if NAMES[address[0]] == 2 else (address[1:3], address[3])
+
+
+def creation(address, definition):
+    """The statement, with full refs, that creates an item with a full definition at an address."""
+    return ("create", address[0], where_of(address), definition)

@@ -56,14 +56,17 @@ def output_type(output, refs, wanted):
     return wanted[of_table] if of_table in wanted else wanted[(("view",) + ref, output[2])]
 
 
-def is_met(need, states):
-    """Whether a need is met by the items whose states are those of the dict."""
-    address, part, wanted, _ = need
-    if address not in states:
-        return False
+def is_offered(need, offers):
+    """Whether an item that has these offers meets a need of it."""
+    _, part, wanted, _ = need
     if wanted is None:
         return True
-    what = dict(states[address][2]).get(part)
+    what = dict(offers).get(part)
     if isinstance(wanted, tuple) and wanted[0] == "below":
         return what < wanted[1]
     return what == wanted
+
+
+def is_met(need, states):
+    """Whether a need is met by the items whose states are those of the dict."""
+    return need[0] in states and is_offered(need, states[need[0]][2])

@@ -98,3 +98,16 @@ def rank(thing):
     if isinstance(thing, tuple):
         return (3, tuple([rank(part) for part in thing]))
     return (1 if is_integer(thing) else 2, thing)
+
+
+def is_same(thing, value):
+    """Whether thing, any value, is this value of tuples, strings, integers and None, each part of the same kind."""
+    if isinstance(value, tuple):
+        if not is_tuple(thing, len(value), len(value)):
+            return False
+        return all([is_same(part, own) for part, own in zip(thing, value)])
+    if value is None:
+        return thing is None
+    if isinstance(value, str):
+        return isinstance(thing, str) and thing == value
+    return is_integer(thing) and thing == value

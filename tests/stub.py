@@ -78,3 +78,30 @@ def all_sorts():
         [deep_list(38), 0], tuple(range(20000)), list(range(20000)), "a" * 20000, ("a" * 20000,), ("a",) * 19999,
         [("table", "app", "orders")] * 6000, {k: k for k in range(9999)},
     ]
+
+
+def otherwise(thing):
+    """The value with one part of it, at any depth, put as a value of another sort: none is equal in kind to thing."""
+    yield Odd()
+    if isinstance(thing, (tuple, list)):
+        yield list(thing) if isinstance(thing, tuple) else tuple(thing)
+        yield thing + type(thing)([None])
+        for at, inner in enumerate(thing):
+            for other in otherwise(inner):
+                yield thing[:at] + type(thing)([other]) + thing[at + 1:]
+    elif isinstance(thing, dict):
+        yield list(thing.items())
+        for key in thing:
+            for other in otherwise(thing[key]):
+                yield {**thing, key: other}
+    elif isinstance(thing, int):
+        yield str(thing)
+        if thing in (0, 1):
+            yield bool(thing)
+    elif isinstance(thing, str):
+        yield thing.encode()
+        yield [thing]
+        yield None
+    else:
+        yield ()
+        yield 0
