@@ -87,8 +87,8 @@ def least_ring_in(whys):
     events = least_ring({event: list(whys[event]) for event in whys})
     if events is None:
         return None
-    steps = zip(events, events[1:] + events[:1])
-    return [(event, later, min(whys[event][later], key=rank)) for event, later in steps]
+    ends = events[1:] + events[:1]
+    return [(event, later, min(whys[event][later], key=rank)) for event, later in zip(events, ends)]
 
 
 def ring(one, other, choice):

@@ -12,7 +12,7 @@ from leancatalog.words import is_address, is_same, is_tuple
 LASTING = ("schema", "table", "column", "sequence")
 
 # What may be told of one address, by the words of its statements in their order.
-TURNS = (["drop"], ["create"], ["drop", "create"], ["replace"])
+TURNS = (("drop",), ("create",), ("drop", "create"), ("replace",))
 
 
 def cost_of(pair, choice):
@@ -189,7 +189,7 @@ def is_migration(one, other, thing):
     for word, address in told_by(thing, allowed(one, other)):
         turns.setdefault(address, []).append(word)
     many = sum([len(turns[address]) for address in turns])
-    if many < len(thing) or not all([turns[address] in TURNS for address in turns]):
+    if many < len(thing) or not all([tuple(turns[address]) in TURNS for address in turns]):
         return False
     return leads_to(one, other, thing)
 

@@ -127,10 +127,9 @@ def are_maps(one, other, thing):
     return True
 
 
-def rows_missed(catalog, one, other, data):
-    """The rows that one selects from data, and other does not."""
-    missed = rows_of_union(catalog, other, data)
-    return [row for row in rows_of_union(catalog, one, data) if row not in missed]
+def is_selected(catalog, union, told):
+    """Whether a union selects the row of a judgement from its data."""
+    return told[2] in rows_of_union(catalog, union, told[1])
 
 
 def is_judged(catalog, plan, thing):
@@ -150,4 +149,4 @@ def is_judged(catalog, plan, thing):
     if not are_data(catalog, thing[1]) or not is_row(thing[2], plan._types):
         return False
     one, other = (kept, new) if thing[3] == "kept" else (new, kept)
-    return thing[2] in rows_missed(catalog, one, other, thing[1])
+    return is_selected(catalog, one, thing) and not is_selected(catalog, other, thing)
