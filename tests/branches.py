@@ -2,7 +2,6 @@
 
 import itertools
 
-from leancatalog.catalogs import Catalog
 from leancatalog.changes import done, effects
 from leancatalog.errors import CatalogError
 from tests.drawn import RELATIONS
@@ -310,7 +309,3 @@ class Merge:
         if thing and isinstance(thing[0], Item) and thing[0].address[0] == "column":
             return (self.filled(side, thing[0])[-2:],)
         return tuple(self.filled(side, part) for part in thing)
-
-
-def empty():
-    return branch_of(Catalog())

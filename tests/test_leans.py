@@ -181,6 +181,11 @@ class Rings(unittest.TestCase):
             least = min(all_rings(calls), key=lambda names: (len(names), names), default=None)
             self.assertEqual(ring(calling(calls)), least if least is None else functions(least))
 
+    def test_functions_between_two_rings(self):
+        self.assertEqual(ring(calling({"b": "ac", "c": "b", "a": "d", "d": "e", "e": "d"})), functions("bc"))
+        self.assertEqual(ring(calling({"a": "bd", "b": "c", "c": "a", "d": "e", "e": "f", "f": "g", "g": "e"})), functions("abc"))
+        self.assertEqual(ring(calling({"b": "c", "c": "de", "d": "b", "a": "g", "e": "a", "f": "g", "g": "hf", "h": "f"})), functions("fg"))
+
     def test_items_that_are_no_functions(self):
         one, other = ("table", "app", "f"), ("table", "app", "g")
         items = {one: [need(other)], other: [need(one)]}
