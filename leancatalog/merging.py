@@ -131,7 +131,10 @@ def changed_otherwise(sides, number):
 
 
 class Sum:
-    """The items of two branches together: their places, and the number of the side on which their text stands."""
+    """The items of two branches together: their places, and the number of the side on which their text stands.
+
+    An item that lies in one that is not in the sum has no address there, so none in where: what it needs is a clash.
+    """
 
     def __init__(self, sides):
         base, one, other = sides
@@ -147,15 +150,25 @@ class Sum:
                 if number not in self.places:
                     self.places[number] = sides[at].places[number]
                     self.chosen[number] = at
-        self.where = {number: address_by(self.places, number) for number in self.chosen}
+        self.where = addresses_by({number: self.places[number] for number in self.chosen})
+
+
+def addresses_by(places):
+    """A dict from the numbers of items to their addresses by these places, without those that have none."""
+    found = {number: address_by(places, number) for number in places}
+    return {number: found[number] for number in found if found[number] is not None}
 
 
 def address_by(places, number):
-    """The address of an item by its place."""
+    """The address of an item by its place, None if it lies, at any depth, in one without a place."""
+    if number not in places:
+        return None
     kind, name, holder = places[number]
     if holder is None:
         return (kind, name)
     around = address_by(places, holder)
+    if around is None:
+        return None
     if kind == "default":
         return (kind,) + around[1:]
     # An index and a sequence lie in a schema, although a table may take them along.

@@ -235,10 +235,13 @@ class Merge:
         return item[0], item[-1], None if around is None else self.node(side, around)
 
     def address(self, node):
+        """The address of an item in the sum by its place, None if it lies in one that is not in the sum."""
         kind, name, around = self.around(node)
         if around is None:
             return (kind, name)
-        inside = self.address(around)
+        inside = self.address(around) if around in self.texts else None
+        if inside is None:
+            return None
         if kind == "default":
             return (kind,) + inside[1:]
         return (kind, inside[1], name) if kind in RELATIONS + ("domain", "function") else (kind,) + inside[1:] + (name,)
@@ -277,6 +280,8 @@ class Merge:
         names = {}
         for node in self.texts:
             address = self.address(node)
+            if address is None:
+                continue
             space = ("relation", address[1]) if address[0] in RELATIONS else address[:-1]
             names.setdefault((space, address[-1]), []).append(node)
         clashes = {("name",) + key for key in names if len(names[key]) > 1}

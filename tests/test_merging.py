@@ -5,10 +5,12 @@ import unittest
 from leancatalog.catalogs import Catalog
 from leancatalog.changes import done, run
 from leancatalog.errors import CatalogError, TooMany
+from leancatalog.falls import falls
 from leancatalog.merging import merged
 from leancatalog.plans import Plan
 from leancatalog.reading import faults
 from leancatalog.rights import Rights
+from leancatalog.words import space_of
 from tests.branches import Merge, branch_of
 from tests.build import shop
 from tests.drawn import Drawing, is_valid, where_of
@@ -355,6 +357,62 @@ class Unmet(Merging):
         self.assertIn(("check", "old", "aa", "w"), total[1])
 
 
+class WithoutAddress(Merging):
+    """What lies in an item that is not in the sum has no address there, so its name meets no other one."""
+
+    def test_an_index_whose_table_is_gone(self):
+        index = ("create", "index", "j", ("t", (("column", "a"),)))
+        needs = [("need", ("index", "app", "j"), (A, None, "int", "soft")), ("need", ("index", "app", "j"), (T, None, None, "owned"))]
+        for taker in [("create", "table", "j", ()), ("create", "sequence", "j", (None,)), ("rename", "sequence", "free", "j")]:
+            self.clashes([("drop", "table", "t", "cascade"), taker], [index], *needs)
+        again = [("create", "table", "t", ()), ("create", "column", ("t", "a"), ("int", None)), index]
+        self.clashes([("drop", "table", "t", "cascade")] + again, [index], *needs)
+
+    def test_a_sequence_whose_table_is_gone(self):
+        owned = ("create", "sequence", "j", (("t", "a"),))
+        need = ("need", ("sequence", "app", "j"), (A, None, None, "owned"))
+        self.clashes([("drop", "table", "t", "cascade"), ("create", "table", "j", ())], [owned], need)
+        self.clashes([("drop", "table", "t", "cascade"), ("rename", "sequence", "free", "j")], [owned], need)
+        column = ("create", "column", ("t", "n"), ("int", None))
+        self.clashes([("drop", "table", "t", "cascade"), ("create", "table", "j", ())], [column, ("create", "sequence", "j", (("t", "n"),))],
+                     ("need", ("column", "app", "t", "n"), (T, None, None, "owned")))
+
+    def test_a_sequence_of_base_that_has_an_owner_now(self):
+        self.clashes([("drop", "table", "t", "cascade"), ("create", "table", "j", ())],
+                     [("replace", "sequence", "free", (("t", "a"),), "alone"), ("rename", "sequence", "free", "j")],
+                     ("need", FREE, (A, None, None, "owned")))
+
+    def test_what_lies_in_a_table_that_is_made_again(self):
+        again = [("drop", "table", "t", "cascade"), ("create", "table", "t", ())]
+        for kind, definition in [("column", ("int", None)), ("check", (("equal", ("int", 1), ("int", 1)),)),
+                                 ("trigger", ("insert", ("equal", ("int", 1), ("int", 1))))]:
+            new = ("create", kind, ("t", "n"), definition)
+            self.clashes(again + [new], [new], ("need", (kind, "app", "t", "n"), (T, None, None, "owned")))
+
+    def test_the_default_of_a_column_that_is_made_again(self):
+        again = [("drop", "column", ("t", "a"), "cascade"), ("create", "column", ("t", "a"), ("int", None))]
+        new = ("create", "default", ("t", "a"), (("int", 1),))
+        self.clashes(again + [new], [new], ("need", ("default", "app", "t", "a"), (A, None, "int", "owned")))
+
+    def test_what_lies_in_a_schema_that_is_made_again(self):
+        again = [("drop", "schema", "old", "alone"), ("create", "schema", "old", ())]
+        for kind, definition in [("table", ()), ("sequence", (None,)), ("domain", ("int", None)), ("function", ((), "int", ("int", 1)))]:
+            new = ("create", kind, ("old", "n"), definition)
+            self.clashes(again + [new], [new], ("need", (kind, "old", "n"), (OLD, None, None, "hard")))
+
+    def test_at_any_depth(self):
+        again = [("drop", "schema", "old", "alone"), ("create", "schema", "old", ()), ("create", "table", ("old", "t"), ()),
+                 ("create", "column", (("old", "t"), "a"), ("int", None)), ("create", "default", (("old", "t"), "a"), (("int", 1),)),
+                 ("create", "domain", ("old", "i"), ("int", None)), ("create", "sequence", ("old", "q"), (None,))]
+        self.clashes([("move", "table", "t", "old")], again,
+                     ("need", I, (OLD, None, None, "hard")), ("need", Q, (OLD, None, None, "hard")), ("need", T, (OLD, None, None, "hard")))
+
+    def test_other_names_meet(self):
+        self.clashes([("drop", "table", "t", "cascade"), ("create", "table", "j", ()), ("create", "domain", "e", ("int", None))],
+                     [("create", "index", "j", ("t", (("column", "a"),))), ("create", "domain", "e", ("text", None))],
+                     ("name", ("domain", "app"), "e"))
+
+
 class Laws(Merging):
     def test_the_merge_of_a_merge_and_one(self):
         for one, other in [
@@ -452,6 +510,41 @@ class Drawn(Merging):
             words[told[0]] = words.get(told[0], 0) + 1
         self.assertGreater(min(words.values()), 20)
         self.assertGreater(matched, 300)
+
+    def test_drawn_items_in_what_is_dropped_and_made_again(self):
+        words, without = {}, 0
+        for seed in range(150):
+            drawing = Drawing(seed, "abcdef")
+            base = branch_of(drawing.catalog(16))
+            item = drawing.one(drawing.items(base.catalog, "schema", "table", "column"))
+            other = base
+            for _ in range(6):
+                made = drawing.create(other.catalog, ["table", "column", "index", "sequence", "default", "check", "domain"])
+                other = other.tried([made] if made is not None else [])
+            one = base.run(("drop", item[0], where_of(item), "cascade")).tried(self.again(drawing, base.catalog, other.catalog, item) * 4)
+            told = self.check(base, one, other)
+            found = {told[0]} if told[0] == "merged" else {clash[0] for clash in told[1]}
+            for word in found:
+                words[word] = words.get(word, 0) + 1
+            without += found == {"need"} and self.meets_without_address(Merge(base, one, other))
+        self.assertGreater(min(words.values()), 20)
+        self.assertEqual(sorted(words), ["merged", "name", "need"])
+        self.assertGreater(without, 30)
+
+    def again(self, drawing, base, other, item):
+        """Statements for what falls with an item of base and for what is new in other, or for tables of these names."""
+        new = [address for address in other.addresses() if address not in base]
+        script = [("create", address[0], where_of(address), other[address]) for address in new + falls(base, item)]
+        tables = [("create", "table", address[1:], ()) for address in new if len(address) == 3]
+        return [statement for statement in script + tables if drawing.chance(75)]
+
+    def meets_without_address(self, merge):
+        """Whether an item that has no address in the sum had one in its branch whose name stands in the sum."""
+        def place(address):
+            return space_of(address) + address[-1:]
+        told = {merge.address(node) for node in merge.texts} - {None}
+        lost = [merge.told_address(node) for node in merge.texts if merge.address(node) is None]
+        return any(place(address) in {place(other) for other in told} for address in lost)
 
     def otherwise(self, drawing, catalog, statement):
         try:
