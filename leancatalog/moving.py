@@ -40,10 +40,8 @@ def coming(states, address):
 
 def moved(addresses, along, schema):
     """A dict from the old to the new addresses if items come to a schema, with all that lies in them."""
-    new = {}
-    for item in along:
-        new.update(renamed(addresses, item, (item[0], schema, item[2])))
-    return new
+    parts = [renamed(addresses, item, (item[0], schema, item[2])) for item in along]
+    return {address: part[address] for part in parts for address in part}
 
 
 def new_refs(kind, definition, new):
