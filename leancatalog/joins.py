@@ -87,7 +87,8 @@ def put_together(part, chosen):
     for (alias, _), (more, joined, columns) in zip(part[0], chosen):
         many = len(atoms)
         links.extend([(later(one, many), later(other, many)) for one, other in joined])
-        terms.update({(alias, name): later(columns[name], many) for name in columns})
+        for name in columns:
+            terms[(alias, name)] = later(columns[name], many)
         atoms.extend(more)
     for one, other in part[1]:
         links.append((terms.get(one[1:], one), terms.get(other[1:], other)))
