@@ -108,7 +108,8 @@ def sides_of(base, one, other):
         differing = unlike(first, second, list(shared.values()))
         if not differing:
             return (Side(base, numbers), first, second)
-        apart.update({second.told[number]: True for number in differing})
+        for number in differing:
+            apart[second.told[number]] = True
 
 
 def settled(versions):
