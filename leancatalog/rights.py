@@ -182,7 +182,9 @@ class Rights:
         if fallen and way == "restrict":
             raise Hung(fallen[0])
         kept = {key: self._grants[key] for key in self._grants if key[2:] != (address, right)}
-        kept.update({pair + (address, right): left[pair] for pair in left if pair not in lost})
+        for pair in left:
+            if pair not in lost:
+                kept[pair + (address, right)] = left[pair]
         self._grants = kept
         return fallen
 
@@ -215,7 +217,8 @@ class Rights:
         new = {item: now[identities[item]] for item in self._owners if identities[item] in now}
         gone = [grant for grant in self.grants() if grant[2] not in new]
         owners = owned_in(catalog, owner)
-        owners.update({new[item]: self._owners[item] for item in new})
+        for item in new:
+            owners[new[item]] = self._owners[item]
         left = [key for key in self._grants if key[2] in new]
         self._grants = {key[:2] + (new[key[2]], key[3]): self._grants[key] for key in left}
         self._owners = owners
